@@ -1,0 +1,128 @@
+"""What the tests share: made strips and rows, a plain folding drop by drop, and wrong values of every kind."""
+
+import random
+from collections import Counter
+
+from wetfolds.errors import TooMany
+
+
+def plain_fold(drops, folds):
+    """Fold a list with one place for each drop: each fold lays as many drops again to the mirror places."""
+    drops = list(drops)
+    for h in folds:
+        drops = drops + [h - x for x in drops]
+    return drops
+
+
+def drops_of(strip):
+    """The list with one place for each drop of a strip."""
+    return [place for place, drops in strip for _ in range(drops)]
+
+
+def strip_of(drops):
+    """The strip of a list with one place for each drop."""
+    return tuple(sorted(Counter(drops).items()))
+
+
+def plainly_folded(strip, folds):
+    """A strip folded by a row, drop by drop."""
+    return strip_of(plain_fold(drops_of(strip), folds))
+
+
+def plain_print(place, folds):
+    """The print of one drop, drop by drop."""
+    return strip_of(plain_fold([place], folds))
+
+
+def made_strip(rng, pairs=6, far=20, most=5):
+    """Some strip."""
+    places = rng.sample(range(-far, far + 1), rng.randint(0, pairs))
+    return tuple(sorted((place, rng.randint(1, most)) for place in places))
+
+
+def made_folds(rng, many=4, far=20, least=0):
+    """Some row of folds."""
+    return tuple(rng.randint(-far, far) for _ in range(rng.randint(least, many)))
+
+
+def made(seed):
+    """A source of made things that is the same in each run."""
+    return random.Random(seed)
+
+
+def near_first(far):
+    """The places in the order 0, 1, -1, 2, -2 .."""
+    places = [0]
+    for x in range(1, far + 1):
+        places += [x, -x]
+    return places
+
+
+def long_strip(many=200):
+    """A strip of so many pairs, one beside the other, from 0 on."""
+    return tuple((x, 1) for x in range(many))
+
+
+def nested(kind, depth):
+    """A tuple or a list, nested so deep."""
+    value = kind()
+    for _ in range(depth):
+        value = kind([value])
+    return value
+
+
+FAR = 10 ** 9
+HUGE = 10 ** 119
+
+# Values that are neither an integer, nor a string, nor a tuple.
+STRANGE = [None, True, False, [], [0], [(0, 1)], nested(list, 99), TooMany(7), [None] * 1000]
+STRINGS = ["", ".", "0", "0:1", "turn", "x" * 4000]
+TUPLES = [(), (0,), (1, 2), ((0, 1),), (None,), ("0",), nested(tuple, 99), tuple(range(1000)), ((),) * 1000]
+INTEGERS = [0, 1, -1, 12, FAR, HUGE, -HUGE]
+
+
+def wrong_integers(least, greatest):
+    """Values that are no integers from one to another one."""
+    return STRANGE + STRINGS + TUPLES + [least - 1, greatest + 1, HUGE, -HUGE]
+
+
+WRONG_STRIPS = STRANGE + STRINGS + INTEGERS + [
+    (0,), (None,), ("0:1",), ((),), ((0,),), ((0, 1, 2),), ([0, 1],), ((0, 1), [3, 2]), ((0, 1), 3), (0, 1),
+    ((0, 0),), ((0, -1),), ((0, -HUGE),), ((0, 1), (3, 0)), ((0, 1), (3, -2)),
+    ((True, 1),), ((False, 1),), ((0, True),), ((0, False),), ((0, 1), (True, 1)), ((0, 1), (3, True)),
+    (("0", 1),), ((0, "1"),), ((None, 1),), ((0, None),), ((0, (1,)),), (((0,), 1),), ((0, [1]),), (("", ""),),
+    ((3, 2), (0, 1)), ((0, 1), (-1, 1)), ((0, 1), (0, 1)), ((0, 1), (0, 2)), ((0, 1), (5, 1), (3, 1)),
+    ((0, 1), (5, 1), (5, 1)), ((FAR + 1, 1),), ((-FAR - 1, 1),), ((0, 1), (FAR + 1, 1)), ((-FAR - 1, 1), (0, 1)),
+    ((HUGE, 1),), long_strip(201), long_strip(1000), nested(tuple, 99), (nested(tuple, 98),), ("01",),
+    ((0, 1), "12"), [long_strip(3)],
+]
+
+WRONG_FOLDS = STRANGE + STRINGS + INTEGERS + [
+    [0, 2], (None,), ("0",), ((0,),), ((),), ([],), ([0],), (True,), (False,), (0, True), (0, 2, False),
+    (0, None, 2), (0, "2"), (10 ** 6 + 1,), (-10 ** 6 - 1,), (0, 10 ** 6 + 1), (0, -10 ** 6 - 1), (HUGE,), (-HUGE,),
+    (0,) * 13, tuple(range(13)), (0,) * 1000, nested(tuple, 99), ((0, 1),), "(0, 2)",
+]
+
+WRONG_FORMS = STRANGE + STRINGS + INTEGERS + [
+    (), (0,), (0, 0), (0, 0, (), ()), [0, 0, ()], (0, 0, []), (0, 0, [2]), (0, 0, None), (0, 0, 2), (0, 0, ""),
+    (True, 0, ()), (0, False, ()), (None, 0, ()), (0, None, ()), ("0", 0, ()), (0, "0", ()), ((), 0, ()),
+    (10 ** 6 + 1, 0, ()), (-10 ** 6 - 1, 0, ()), (0, 10 ** 6 + 1, ()), (0, -10 ** 6 - 1, ()), (HUGE, 0, ()),
+    (0, 0, (-1,)), (0, 0, (2 * 10 ** 6 + 1,)), (0, 0, (0, 2 * 10 ** 6 + 1)), (0, 0, (HUGE,)), (0, 0, (2, 1)),
+    (0, 0, (1, 3, 2)), (0, 0, (1, 0)), (0, 0, (True,)), (0, 0, (0, False)), (0, 0, (None,)), (0, 0, ("1",)),
+    (0, 0, ((1,),)), (0, 0, (0,) * 12), (0, 0, tuple(range(12))), (0, 0, (0,) * 1000), (0, 0, nested(tuple, 98)),
+    nested(tuple, 99), "abc",
+]
+
+# No moves of the row (0, 1, 3, 0).
+WRONG_MOVES = STRANGE + STRINGS + INTEGERS + TUPLES + [
+    ("turn", 0), ("turn", 0, 1, 2), ["turn", 0, 1], ("turn", 1, 0), ("turn", 1, 1), ("turn", 0, 4), ("turn", -1, 2),
+    ("turn", 0, -1), ("turn", True, 2), ("turn", 0, True), ("turn", False, 2), ("turn", None, 2), ("turn", 0, None),
+    ("turn", "0", 2), ("turn", 0, "2"), ("turn", (0,), 2), ("turn", 0, [2]), ("turn", 0, HUGE), ("turn", -HUGE, 2),
+    ("mirror", 0, 1), ("mirror", 1, 3), ("mirror", 0, 0), ("mirror", 3, 0), ("mirror", 0, 4), ("mirror", -1, 3),
+    ("mirror", False, 3), ("mirror", 0, None), ("Turn", 0, 1), ("", 0, 1), (None, 0, 1), (True, 0, 1), (0, 0, 1),
+    (("turn",), 0, 1), (["turn"], 0, 1), ("moved", 0, 1), ("mirrored", 0, 3), "tur",
+]
+
+WRONG_NEARS = WRONG_STRIPS + [
+    (), ((100001, 1),), ((-100001, 1),), ((0, 1), (100001, 1)), ((-100001, 1), (0, 1)), ((FAR, 1),),
+]

@@ -1,0 +1,131 @@
+"""Every example of the document, word for word."""
+
+import importlib
+import unittest
+
+from wetfolds import errors
+
+MODULES = (
+    "strips", "folding", "prints", "plainstrips", "strippings", "rowways", "foldtexts", "rownumbers", "forms",
+    "formrows", "alikerows", "rowmoves", "standins", "onedrops", "errors",
+)
+
+EXAMPLES = {
+    42: r"""
+>>> A, B = ((0, 1), (3, 2)), ((-2, 5), (3, 1))
+>>> [is_strip(A), is_strip(A[::-1]), is_strip(((0, 0),)), are_folds((2, -1)), are_folds([2]), total_of(A), laid_together(A, B)]
+[True, False, False, True, False, 3, ((-2, 5), (0, 1), (3, 3))]
+>>> [moved_strip(A, -3), mirrored_strip(A, 1), first_place(B), first_place(((-2, 1), (2, 1))), first_place(())]
+[((-3, 1), (0, 2)), ((-2, 2), (1, 1)), -2, 2, None]
+""",
+    43: r"""
+>>> [folded(A, 2), folded_by(A, (2, 0)), folded(((1, 3),), 2), folded(((1, 3),), 1)]
+[((-1, 2), (0, 1), (2, 1), (3, 2)), ((-3, 2), (-2, 1), (-1, 2), (0, 2), (1, 2), (2, 1), (3, 2)), ((1, 6),), ((0, 3), (1, 3))]
+>>> [folded_on(((0, 1),), (1, 1)), drops_at(A, (2, 0), 0), drops_at(A, (2, 0), 5)]
+[[((0, 1),), ((0, 1), (1, 1)), ((0, 2), (1, 2))], 2, 0]
+""",
+    44: r"""
+>>> [steps_of((0, 2, 6, 1)), first_way(3, (0, 2)), print_of(0, (2, 0)), reaches_of(0, (2, 0)), looked_back(0, (2, 0))]
+[(2, 4, 5), 6, ((-2, 1), (0, 2), (2, 1)), ((0, 0), (0, 2), (-2, 2)), ((0, 2), (2, 2))]
+>>> [print_of(0, (0, 2, 6)) == print_of(0, (0, 4, 6)), print_of(5, ()), steps_of((4, 4))]
+[True, ((5, 1),), (0,)]
+""",
+    45: r"""
+>>> [plain_strip(((5, 2), (8, 1))), way_between(A, ((1, 1), (4, 2))), way_between(A, ((5, 2), (8, 1))), way_between(A, B), plain_strip(())]
+[((0, 1), (3, 2)), ('moved', 1), ('mirrored', 8), None, ()]
+""",
+    46: r"""
+>>> [taken_away(((0, 3), (1, 1)), ((0, 2), (1, 1))), taken_away(A, B), common_drops(((0, 3), (2, 1)), ((0, 2), (1, 1)))]
+[((0, 1),), None, ((0, 2),)]
+>>> [made_thinner(((0, 4), (1, 6)), 2), made_thinner(A, 2), thinnest_by(((0, 4), (1, 6))), thinnest_by(())]
+[((0, 2), (1, 3)), None, 2, None]
+""",
+    47: r"""
+>>> [shifted_folds((0, 3), 2), mirrored_folds((0, 3), 1), plain_folds((5, 2, 2)), plain_folds((5, 8, 8)), folds_between((0, 3), (4, 7)), folds_between((0, 3), (2, -1)), folds_between((0, 3), (1, 4))]
+[(4, 7), (2, -1), (1, -2, -2), (1, -2, -2), ('moved', 2), ('mirrored', 1), None]
+""",
+    48: r"""
+>>> [strip_text(B), strip_text(()), read_strip("0:1 3:2") == A, folds_text((2, -1, 7)), read_folds("1 -1/2 7/2"), read_folds(".")]
+['-2:5 3:1', '.', True, '1 -1/2 7/2', (2, -1, 7), ()]
+>>> read_strip("3:1 -1:1")
+raises InvalidText(4)
+>>> read_folds("3/2 4/2")
+raises InvalidText(5)
+""",
+    49: r"""
+>>> [count_folds(2, 1), folds_at(2, 1, 3), folds_number((0, -1), 1), folds_number((0, -2), 1), count_folds(0, 5), folds_at(0, 5, 0)]
+[9, (0, -1), 3, None, 1, ()]
+""",
+    50: r"""
+>>> [form_of((0, 2, 6, 1)), form_of((3,)), count_rows((0, 6, (2, 4))), rows_of((0, 6, (2, 4))), count_rows((0, 0, (2, 4, 6))), count_rows((0, 1, (2,)))]
+[(0, 1, (2, 4, 5)), (3, 3, ()), 2, [(0, 2, 6), (0, 4, 6)], 12, 0]
+""",
+    51: r"""
+>>> [row_at((0, 6, (2, 4)), 1), index_of((0, 4, 6)), least_row((0, 0, (2, 4, 6))), last_row((0, 0, (2, 4, 6))), least_row((0, 1, (2,)))]
+[(0, 4, 6), 1, (0, -6, -4, 0), (0, 6, 4, 0), None]
+""",
+    52: r"""
+>>> [rows_alike((0, 2, 6), (0, 4, 6)), parting_place((0, 2), (0, 4)), parting_place((2, 5), (3, 5)), parting_place((), (0,)), parting_place((0, 2, 6), (0, 4, 6))]
+[True, 0, 1, 0, None]
+>>> [doublings((0, 0, 2), (0, 2)), doublings((0, 2), (0, 2, 2, 2)), doublings((0,), ()), exchange_places((0, 2, -2, 0)), exchange_places((1, 1))]
+[1, -2, None, (1,), (0,)]
+""",
+    53: r"""
+>>> [moved_row((0, 1, 3), ("turn", 0, 2)), moved_row((0, 1, 3, 0), ("mirror", 0, 3)), road_between((0, 1), (0, 2)), is_road((0, 1, 3), (0, 2, 3), (("turn", 0, 2),)), is_road((0, 1), (0, 1), ())]
+[(0, 2, 3), (0, -1, -3, 0), None, True, True]
+""",
+    54: r"""
+>>> [with_row((0, 1, 3), 1, 2, (5, 6)), places_for((0, 1, 3), (2,)), places_for((0, 1), (0,)), places_for((4,), ())]
+[(0, 5, 6, 3), [(1, 2)], [(0, 1)], [(0, 0), (1, 1)]]
+""",
+    55: r"""
+>>> P = ((-2, 1), (0, 2), (2, 1))
+>>> [parts_of(P), parts_of(((0, 1), (3, 2))), drop_places(P), count_drop_rows(P, 0), count_drop_rows(P, -2), first_drop_row(P, 0), first_drop_row(((5, 1),), 5)]
+[(2, 2), None, (-2, 0, 2), 2, 1, (-2, 0), ()]
+""",
+}
+
+
+def names():
+    """All names of the interface that has landed."""
+    found = {}
+    for module in MODULES:
+        found.update(vars(importlib.import_module("wetfolds." + module)))
+    return found
+
+
+def parts(text):
+    """The pairs of what is entered and of what is told behind it (None for nothing)."""
+    lines = text.strip().split("\n")
+    for at, line in enumerate(lines):
+        if line.startswith(">>> "):
+            told = lines[at + 1] if at + 1 < len(lines) else ">>> "
+            yield line[4:], None if told.startswith(">>> ") else told
+
+
+class Examples(unittest.TestCase):
+    def check(self, entered, told, known):
+        if told is None:
+            exec(entered, known)
+        elif told.startswith("raises "):
+            name, number = told[len("raises "):].rstrip(")").split("(")
+            with self.assertRaises(getattr(errors, name)) as caught:
+                eval(entered, known)
+            self.assertEqual(getattr(caught.exception, {"InvalidText": "at", "TooMany": "limit"}[name]), int(number))
+        else:
+            value = eval(entered, known)
+            self.assertEqual(repr(value), repr(eval(told, {})))
+
+    def test_each_example(self):
+        known = names()
+        seen = 0
+        for point in sorted(EXAMPLES):
+            for entered, told in parts(EXAMPLES[point]):
+                with self.subTest(point=point, entered=entered):
+                    self.check(entered, told, known)
+                    seen += 1
+        self.assertEqual(seen, 23)
+
+
+if __name__ == "__main__":
+    unittest.main()

@@ -1,0 +1,1 @@
+"""Wetfolds: strips with wet ink, folded again and again."""
