@@ -111,9 +111,7 @@ class Texts(unittest.TestCase):
                 self.check_wrong(function, text, 1)
             for text in (" ", " .", "\n", "x", "+1", ":", "/", "_1", "x" * 4000):
                 self.check_wrong(function, text, 0)
-            for text in ("-0", "- 1", "--1", "-."):
-                self.check_wrong(function, text, 1)
-            for text in ("-",):
+            for text in ("-", "-0", "- 1", "--1", "-."):
                 self.check_wrong(function, text, 1)
 
     def test_wrong_strips(self):
