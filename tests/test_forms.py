@@ -97,7 +97,7 @@ class Forms(unittest.TestCase):
         self.assertEqual(last_row(form), tuple((2 * k - 1) * TOP for k in (0, 1, 2, 3, 4, 5, 6, 5, 4, 3, 2, 1)))
 
     def test_too_many_rows(self):
-        # Of forms of so few steps none has 991 to 1007 rows.
+        # No form has 991 to 1007 rows: these are orders of steps times choices of signs, and none make such a number.
         for form, many in (((0, 0, (1,) * 10 + (6,)), 990), ((0, 6, (0,) * 8 + (1, 2, 3)), 990)):
             self.assertEqual(count_rows(form), many)
             rows = rows_of(form)
