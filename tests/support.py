@@ -34,6 +34,19 @@ def plain_print(place, folds):
     return strip_of(plain_fold([place], folds))
 
 
+def plain_ink(places, folds):
+    """The lot to which some places come, one by one."""
+    return tuple(sorted(set(plain_fold(places, folds))))
+
+
+def row_by(first, ways):
+    """The row from a first crease on, by what is added to each crease to come to the next one."""
+    row = [first]
+    for way in ways:
+        row.append(row[-1] + way)
+    return tuple(row)
+
+
 def made_strip(rng, pairs=6, far=20, most=5):
     """Some strip."""
     places = rng.sample(range(-far, far + 1), rng.randint(0, pairs))
@@ -126,3 +139,38 @@ WRONG_MOVES = STRANGE + STRINGS + INTEGERS + TUPLES + [
 WRONG_NEARS = WRONG_STRIPS + [
     (), ((100001, 1),), ((-100001, 1),), ((0, 1), (100001, 1)), ((-100001, 1), (0, 1)), ((FAR, 1),),
 ]
+
+WRONG_STEPS = STRANGE + STRINGS + INTEGERS + [
+    [2], [], [0, 1], (None,), ("1",), ((1,),), ((),), (True,), (False,), (0, True), (False, 1), (-1,), (-1, 0), (-HUGE,),
+    (2, 1), (0, 5, 3), (1, 0), (10 ** 6 + 1,), (0, 10 ** 6 + 1), (HUGE,), (0,) * 12, tuple(range(12)), (0,) * 1000,
+    nested(tuple, 99), (1, None), "12",
+]
+
+WRONG_PRIMES = STRANGE + STRINGS + TUPLES + [0, 1, 4, 6, 8, 9, 11, 13, -2, -3, -7, FAR, HUGE, -HUGE, (2,), [3], "5", ((7,),)]
+
+WRONG_LOTS = STRANGE + STRINGS + INTEGERS + [
+    [1, 2], (None,), ("0",), ("0", "1"), ((0,),), ((),), ([],), ((0, 1),), (True,), (False,), (0, True), (False, 1),
+    (-1, True), (0, None), (0, "1"), (10 ** 5 + 1,), (-10 ** 5 - 1,), (0, 10 ** 5 + 1), (-10 ** 5 - 1, 0), (HUGE,),
+    (-HUGE,), (2, 1), (0, 5, 3), (0, -1), (1, 1), (0, 0), (0, 1, 1), tuple(range(257)), tuple(range(256, 0, -1)),
+    tuple(range(1000)), nested(tuple, 99), "(0, 1)", [list(range(3))],
+]
+
+# No ring drops of the size 3.
+WRONG_RINGS = STRANGE + STRINGS + INTEGERS + [
+    (), (0,), (1, 2), (0, 0, 0, 0), (1, 2, 3, 4), [0, 4, 3], [(0, 4, 3)], ((0, 4, 3),), (-1, 0, 0), (0, 0, -1),
+    (0, -HUGE, 0), (FAR + 1, 0, 0), (0, 0, FAR + 1), (0, HUGE, 0), (True, 0, 0), (0, 0, False), (None, 0, 0),
+    (0, None, 0), ("0", 0, 0), (0, 0, "1"), ((0,), 0, 0), ([0], 0, 0), ((), (), ()), "abc", "012", (0,) * 64,
+    nested(tuple, 99), ((0, 1), (1, 4), (2, 3)), tuple(range(1000)),
+]
+
+PRIMES = (2, 3, 5, 7)
+
+
+def plainly_modulo(strip, prime):
+    """A strip modulo a prime."""
+    return tuple((place, drops % prime) for place, drops in strip if drops % prime)
+
+
+def plain_wash(place, folds, prime):
+    """The print of one drop modulo a prime, drop by drop."""
+    return plainly_modulo(plain_print(place, folds), prime)

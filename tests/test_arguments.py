@@ -5,117 +5,34 @@ import inspect
 import unittest
 
 from tests import support
-from tests.support import FAR, INTEGERS, STRANGE, STRINGS, TUPLES, wrong_integers
+from tests.interface import A, B, FOLDS, FUNCTIONS, LISTS, NEAR, NO_STRINGS
+from tests.support import FAR, INTEGERS, STRANGE, STRINGS, TUPLES
 from wetfolds import errors
-from wetfolds.alikerows import doublings, exchange_places, parting_place, rows_alike
 from wetfolds.errors import (
-    FoldError, InvalidCrease, InvalidFolds, InvalidForm, InvalidIndex, InvalidMove, InvalidNumber, InvalidPlace,
-    InvalidStretch, InvalidStrip, InvalidText, NoFolds, TooMany,
+    EmptyLot, FoldError, InvalidCrease, InvalidFolds, InvalidIndex, InvalidLot, InvalidMove, InvalidNumber,
+    InvalidPlace, InvalidPrime, InvalidStretch, InvalidStrip, InvalidText, NoFolds, NotInked, TooMany,
 )
-from wetfolds.folding import drops_at, folded, folded_by, folded_on
-from wetfolds.foldtexts import folds_text, read_folds, read_strip, strip_text
-from wetfolds.formrows import index_of, last_row, least_row, row_at
-from wetfolds.forms import count_rows, form_of, is_form, rows_of
-from wetfolds.onedrops import count_drop_rows, drop_places, first_drop_row, parts_of
-from wetfolds.plainstrips import plain_strip, way_between
-from wetfolds.prints import first_way, looked_back, print_of, reaches_of, steps_of
-from wetfolds.rowmoves import is_road, moved_row, road_between
-from wetfolds.rownumbers import count_folds, folds_at, folds_number
-from wetfolds.rowways import folds_between, mirrored_folds, plain_folds, shifted_folds
-from wetfolds.standins import places_for, with_row
-from wetfolds.strippings import common_drops, made_thinner, taken_away, thinnest_by
-from wetfolds.strips import are_folds, first_place, is_strip, laid_together, mirrored_strip, moved_strip, total_of
-
-A = ((0, 1), (3, 2))
-B = ((-2, 5), (3, 1))
-FOLDS = (0, 1, 3, 0)
-FORM = (0, 6, (2, 4))
-NEAR = ((-2, 1), (0, 2), (2, 1))
-
-# An argument is a right value and a tuple of pairs: wrong values, and the error that each of them raises.
-STRIP = (A, ((support.WRONG_STRIPS, InvalidStrip),))
-OTHER = (B, ((support.WRONG_STRIPS, InvalidStrip),))
-ROW = (FOLDS, ((support.WRONG_FOLDS, InvalidFolds),))
-BESIDE = ((0, 3, 1, 0), ((support.WRONG_FOLDS, InvalidFolds),))
-SOME_ROW = (FOLDS, ((support.WRONG_FOLDS, InvalidFolds), ([()], NoFolds)))
-CREASE = (1, ((wrong_integers(-10 ** 6, 10 ** 6), InvalidCrease),))
-PLACE = (2, ((wrong_integers(-FAR, FAR), InvalidPlace),))
-BY = (3, ((wrong_integers(-FAR, FAR), InvalidNumber),))
-THINNER = (1, ((wrong_integers(1, FAR), InvalidNumber),))
-MANY = (2, ((wrong_integers(0, 12), InvalidNumber),))
-MOST = (1, ((wrong_integers(0, 10 ** 6), InvalidNumber),))
-NUMBER = (3, ((wrong_integers(0, 8), InvalidNumber),))
-A_FORM = (FORM, ((support.WRONG_FORMS, InvalidForm),))
-INDEX = (1, ((wrong_integers(0, 1), InvalidIndex),))
-MOVE = (("turn", 0, 2), ((support.WRONG_MOVES, InvalidMove),))
-BEGIN = (1, ((wrong_integers(0, 4) + [3, 4], InvalidStretch),))
-END = (2, ((wrong_integers(0, 4) + [0], InvalidStretch),))
-STANDS_IN = ((5,), ((support.WRONG_FOLDS, InvalidFolds),))
-A_NEAR = (NEAR, ((support.WRONG_NEARS, InvalidStrip),))
-NO_STRINGS = STRANGE + TUPLES + INTEGERS + [["0:1"], ("0:1",)]
-STRIP_SAID = ("0:1 3:2", ((NO_STRINGS, InvalidText),))
-ROW_SAID = ("1 -1/2 7/2", ((NO_STRINGS, InvalidText),))
-
-# Each function of the interface with its file, its parameters as the document writes them, and its arguments.
-FUNCTIONS = [
-    (total_of, "strips", "strip", [STRIP]),
-    (laid_together, "strips", "strip other", [STRIP, OTHER]),
-    (moved_strip, "strips", "strip by", [STRIP, BY]),
-    (mirrored_strip, "strips", "strip crease", [STRIP, CREASE]),
-    (first_place, "strips", "strip", [STRIP]),
-    (folded, "folding", "strip crease", [STRIP, CREASE]),
-    (folded_by, "folding", "strip folds", [STRIP, ROW]),
-    (folded_on, "folding", "strip folds", [STRIP, ROW]),
-    (drops_at, "folding", "strip folds place", [STRIP, ROW, PLACE]),
-    (steps_of, "prints", "folds", [ROW]),
-    (first_way, "prints", "place folds", [PLACE, ROW]),
-    (print_of, "prints", "place folds", [PLACE, ROW]),
-    (reaches_of, "prints", "place folds", [PLACE, ROW]),
-    (looked_back, "prints", "place folds", [PLACE, ROW]),
-    (plain_strip, "plainstrips", "strip", [STRIP]),
-    (way_between, "plainstrips", "strip other", [STRIP, OTHER]),
-    (taken_away, "strippings", "strip other", [STRIP, OTHER]),
-    (common_drops, "strippings", "strip other", [STRIP, OTHER]),
-    (made_thinner, "strippings", "strip number", [STRIP, THINNER]),
-    (thinnest_by, "strippings", "strip", [STRIP]),
-    (shifted_folds, "rowways", "folds by", [ROW, BY]),
-    (mirrored_folds, "rowways", "folds crease", [ROW, CREASE]),
-    (plain_folds, "rowways", "folds", [ROW]),
-    (folds_between, "rowways", "folds other", [ROW, BESIDE]),
-    (strip_text, "foldtexts", "strip", [STRIP]),
-    (folds_text, "foldtexts", "folds", [ROW]),
-    (read_strip, "foldtexts", "text", [STRIP_SAID]),
-    (read_folds, "foldtexts", "text", [ROW_SAID]),
-    (count_folds, "rownumbers", "many most", [MANY, MOST]),
-    (folds_at, "rownumbers", "many most number", [MANY, MOST, NUMBER]),
-    (folds_number, "rownumbers", "folds most", [ROW, MOST]),
-    (form_of, "forms", "folds", [SOME_ROW]),
-    (count_rows, "forms", "form", [A_FORM]),
-    (rows_of, "forms", "form", [A_FORM]),
-    (row_at, "formrows", "form index", [A_FORM, INDEX]),
-    (index_of, "formrows", "folds", [SOME_ROW]),
-    (least_row, "formrows", "form", [A_FORM]),
-    (last_row, "formrows", "form", [A_FORM]),
-    (rows_alike, "alikerows", "folds beside", [ROW, BESIDE]),
-    (parting_place, "alikerows", "folds beside", [ROW, BESIDE]),
-    (doublings, "alikerows", "folds beside", [ROW, BESIDE]),
-    (exchange_places, "alikerows", "folds", [ROW]),
-    (moved_row, "rowmoves", "folds move", [ROW, MOVE]),
-    (road_between, "rowmoves", "folds beside", [ROW, BESIDE]),
-    (is_road, "rowmoves", "folds beside value", [ROW, BESIDE, ((("turn", 0, 3),), ())]),
-    (with_row, "standins", "folds begin end beside", [ROW, BEGIN, END, STANDS_IN]),
-    (places_for, "standins", "folds beside", [ROW, STANDS_IN]),
-    (parts_of, "onedrops", "near", [A_NEAR]),
-    (drop_places, "onedrops", "near", [A_NEAR]),
-    (count_drop_rows, "onedrops", "near place", [A_NEAR, PLACE]),
-    (first_drop_row, "onedrops", "near place", [A_NEAR, PLACE]),
-    (is_strip, "strips", "value", [(A, ())]),
-    (are_folds, "strips", "value", [(FOLDS, ())]),
-    (is_form, "forms", "value", [(FORM, ())]),
-]
-
-# The functions that return lists.
-LISTS = (folded_on, rows_of, places_for)
+from wetfolds.folding import drops_at, folded_by, folded_on
+from wetfolds.foldtexts import read_folds, read_strip
+from wetfolds.formrows import index_of, row_at
+from wetfolds.forms import form_of, is_form
+from wetfolds.greatestlots import fewest_before
+from wetfolds.inkedplaces import inked_by, place_apart_in_ink
+from wetfolds.likeprints import first_unlike
+from wetfolds.likerows import fewest_folds, least_ink_row, step_lots
+from wetfolds.lotways import fewest_ways, row_from
+from wetfolds.onedrops import count_drop_rows, first_drop_row
+from wetfolds.prints import first_way, looked_back, print_of
+from wetfolds.rings import are_ring_drops
+from wetfolds.rowmoves import is_road, moved_row
+from wetfolds.rowways import mirrored_folds, shifted_folds
+from wetfolds.standins import with_row
+from wetfolds.strippings import made_thinner
+from wetfolds.strips import are_folds, is_strip, mirrored_strip, moved_strip
+from wetfolds.usualcounts import unusual_places, usual_count
+from wetfolds.washbacks import washed_from
+from wetfolds.washforms import wash_form
+from wetfolds.washings import washed_by
 
 
 def right_values(arguments):
@@ -204,9 +121,43 @@ class WrongArguments(unittest.TestCase):
                     self.check(function, values, wrong_values(arguments[0])[0][1])
 
     def test_no_folds_come_behind_what_is_no_row(self):
-        for function in (form_of, index_of):
+        for function in (form_of, index_of, usual_count, unusual_places):
             self.check(function, [()], NoFolds)
             self.check(function, [[]], InvalidFolds)
+        for prime in (2, 4, None):
+            self.check(wash_form, [(), prime], NoFolds)
+            self.check(wash_form, [[], prime], InvalidFolds)
+            self.check(washed_from, [A, (), prime], NoFolds)
+            self.check(washed_from, [A, [], prime], InvalidFolds)
+            self.check(washed_from, [[], (), prime], InvalidStrip)
+
+    def test_empty_lots_and_places_outside_come_in_order(self):
+        long_lot = tuple(range(33))
+        self.check(fewest_ways, [()], EmptyLot)
+        self.check(fewest_ways, [[]], InvalidLot)
+        self.check(fewest_ways, [long_lot], TooMany)
+        self.check(row_from, [0, ()], EmptyLot)
+        self.check(row_from, [FAR, ()], EmptyLot)
+        self.check(row_from, [FAR + 1, ()], InvalidPlace)
+        self.check(row_from, [FAR + 1, []], InvalidPlace)
+        self.check(row_from, [0, []], InvalidLot)
+        self.check(row_from, [33, long_lot], NotInked)
+        self.check(row_from, [FAR, long_lot], NotInked)
+        self.check(row_from, [-1, long_lot], NotInked)
+        self.check(row_from, [True, long_lot], InvalidPlace)
+        self.check(row_from, [32, long_lot], TooMany)
+
+    def test_rows_that_are_not_short_come_behind_what_is_no_row(self):
+        long_row = tuple(range(9))
+        for function in (fewest_folds, least_ink_row, step_lots, usual_count, unusual_places):
+            self.check(function, [long_row], TooMany)
+            self.check(function, [list(long_row)], InvalidFolds)
+            self.check(function, [(0,) * 13], InvalidFolds)
+        self.check(place_apart_in_ink, [long_row, (0,)], TooMany)
+        self.check(place_apart_in_ink, [(0,), long_row], TooMany)
+        self.check(place_apart_in_ink, [long_row, long_row], TooMany)
+        self.check(place_apart_in_ink, [long_row, [0]], InvalidFolds)
+        self.check(place_apart_in_ink, [(True,), long_row], InvalidFolds)
 
     def test_what_is_no_string_is_wrong_from_the_first_sign_on(self):
         for function in (read_strip, read_folds):
@@ -230,6 +181,25 @@ class WrongArguments(unittest.TestCase):
             self.check(function, [far, tuple(3 ** k for k in range(11))], TooMany)
             self.check(function, [far, tuple(range(13))], InvalidFolds)
             self.check(function, [far, [0] * 11], InvalidFolds)
+        many = tuple(3 ** k for k in range(11))
+        self.check(first_unlike, [far, far, many], TooMany)
+        self.check(first_unlike, [far, (), many], TooMany)
+        self.check(first_unlike, [(), far, many], TooMany)
+        self.check(first_unlike, [far, [], many], InvalidStrip)
+        self.check(first_unlike, [far, far, many + (True,)], InvalidFolds)
+        self.check(washed_by, [far, many, 2], TooMany)
+        self.check(washed_by, [far, many, 4], InvalidPrime)
+        self.check(washed_by, [far, list(many), 2], InvalidFolds)
+        apart = ((0, 1), (4001, 1))
+        self.check(washed_from, [apart, (0,), 2], TooMany)
+        self.check(washed_from, [apart, (0,), True], InvalidPrime)
+        self.check(washed_from, [apart, (), 2], NoFolds)
+        self.check(washed_from, [apart, (None,), 2], InvalidFolds)
+        lot = tuple(x * 300 for x in range(256))
+        self.check(inked_by, [lot, many], TooMany)
+        self.check(inked_by, [lot, many + (10 ** 6 + 1,)], InvalidFolds)
+        self.check(fewest_before, [tuple(range(15)), ()], TooMany)
+        self.check(fewest_before, [tuple(range(15)), [14]], InvalidFolds)
 
     def test_indices_of_forms_without_rows(self):
         for index in (-1, 0, 1, None, True):
@@ -249,7 +219,8 @@ class WrongArguments(unittest.TestCase):
 class AnyValues(unittest.TestCase):
     EVERYTHING = (
         STRANGE + STRINGS + TUPLES + INTEGERS + support.WRONG_STRIPS + support.WRONG_FOLDS + support.WRONG_FORMS
-        + support.WRONG_MOVES + support.WRONG_NEARS
+        + support.WRONG_MOVES + support.WRONG_NEARS + support.WRONG_STEPS + support.WRONG_PRIMES + support.WRONG_LOTS
+        + support.WRONG_RINGS
         + [errors.InvalidStrip("x"), errors.InvalidText(3), FoldError(), (errors.TooMany(3),), ((0, errors.TooMany(3)),)]
     )
 
@@ -270,8 +241,13 @@ class AnyValues(unittest.TestCase):
             self.check(is_road, (("turn", 0, 1), value), False, FOLDS, FOLDS)
             self.check(is_road, (value, ("turn", 0, 1)), False, FOLDS, FOLDS)
 
+        for value in support.WRONG_RINGS:
+            self.check(are_ring_drops, value, False, 3)
+
     def test_all_are_told_by_true_or_false(self):
         for value in self.EVERYTHING:
+            for size in (1, 2, 3, 64):
+                self.assertIsInstance(are_ring_drops(size, value), bool)
             for function in (is_strip, are_folds, is_form):
                 self.assertIn(function(value), (True, False))
                 self.assertIsInstance(function(value), bool)
@@ -305,6 +281,15 @@ class AnyValues(unittest.TestCase):
         for value in right:
             self.check(is_form, value, True)
             self.check(is_form, list(value), False)
+
+    def test_ring_drops(self):
+        right = [(1, (0,)), (1, (FAR,)), (2, (0, 0)), (3, (0, 4, 3)), (3, (FAR, FAR, FAR)), (64, (0,) * 64),
+                 (64, tuple(range(64)))]
+        for size, value in right:
+            self.check(are_ring_drops, value, True, size)
+            self.check(are_ring_drops, list(value), False, size)
+            self.check(are_ring_drops, value + (0,), False, size)
+            self.check(are_ring_drops, value[1:], False, size)
 
     def test_limits_raise_nothing(self):
         top = 10 ** 6

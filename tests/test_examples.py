@@ -7,7 +7,9 @@ from wetfolds import errors
 
 MODULES = (
     "strips", "folding", "prints", "plainstrips", "strippings", "rowways", "foldtexts", "rownumbers", "forms",
-    "formrows", "alikerows", "rowmoves", "standins", "onedrops", "errors",
+    "formrows", "alikerows", "rowmoves", "standins", "onedrops", "errors", "foldbacks", "likeprints", "stepbacks",
+    "washforms", "washings", "washbacks", "washrows", "inkedplaces", "likerows", "lotways", "stretches",
+    "usualcounts", "greatestlots", "rings", "ringwashes",
 )
 
 EXAMPLES = {
@@ -83,6 +85,76 @@ raises InvalidText(5)
 >>> [parts_of(P), parts_of(((0, 1), (3, 2))), drop_places(P), count_drop_rows(P, 0), count_drop_rows(P, -2), first_drop_row(P, 0), first_drop_row(((5, 1),), 5)]
 [(2, 2), None, (-2, 0, 2), 2, 1, (-2, 0), ()]
 """,
+    56: r"""
+>>> [stuck_fold(P, (2, 0)), stuck_fold(P, (1, 0)), stuck_fold(P, (1,)), stuck_fold(((0, 1),), (0,)), count_before(P, (2, 0)), strip_before(P, (2, 0)), strip_before(P, (0,)), count_before(P, ())]
+[None, 1, 0, 0, 2, ((2, 1),), ((0, 1), (2, 1)), 1]
+""",
+    57: r"""
+>>> [come_to_one(((0, 1),), ((2, 1),), (2, 0)), first_unlike(((0, 1),), ((2, 1),), (0,)), count_like(((0, 1), (3, 2)), (2, 0)), count_like(P, ())]
+[True, 0, 6, 1]
+""",
+    58: r"""
+>>> [rest_by(P, (2,)), rest_by(P, (1,)), first_creases(P, (2,)), count_step_rows(P, (2,)), count_step_rows(P, (2, 2)), last_crease(P), last_crease(((0, 1),)), last_steps(P)]
+[((-2, 1), (0, 1)), None, (-2, 2), 2, 0, 0, None, (2,)]
+""",
+    59: r"""
+>>> [strip_modulo(((0, 4), (2, 3), (3, 5)), 2), wash_form((0, 2, 4, 7), 2), wash_form((0, 2, 4, 7), 3), wash_form((1, 1), 2), wash_form((0, 0, 0, 0, 4), 3)]
+[((2, 1), (3, 1)), (0, 7, 0, (3, 4)), (0, 7, 0, (2, 2, 3)), (), (0, 4, 1, (4,))]
+>>> [wash_alike((0, 1, 0), (0, 1, 2, 0), 2), wash_alike((0, 2, 4), (0, 4), 2), wash_parting((0, 1), (0, 3), 2), wash_parting((1,), (), 2), alike_primes((0, 2, 4, 6), (0, 6))]
+[False, True, 1, 0, (3,)]
+""",
+    60: r"""
+>>> [washed_by(((0, 1), (3, 2)), (2, 0), 2), washed_by(((1, 1),), (2,), 3), washes_out(((0, 1), (1, 5), (2, 1)), (2, 7), 2), washes_out(((0, 1), (2, 2)), (2, 7), 3)]
+[((-2, 1), (2, 1)), ((1, 2),), True, True]
+>>> [count_inked(0, (1, 2, 4, 8), 2), count_inked(0, (1, 2, 3), 2), count_inked(0, (1, 2, 3), 3), count_inked(1, (2, 5), 2)]
+[2, 4, 2, 0]
+""",
+    61: r"""
+>>> [washed_from(((0, 1), (2, 1)), (2,), 2), washed_from(((1, 2),), (2,), 3), washed_from(((1, 1),), (2,), 2), washed_from(((-2, 1), (2, 1)), (2, 0), 2)]
+[((2, 1),), ((1, 1),), None, ((2, 1),)]
+""",
+    62: r"""
+>>> [fewest_wash((0, 2, 4), 2), short_wash((0, 2, 4), 2), fewest_wash((0, 2, 0), 2), fewest_wash((0, 2, 4, 2, 0, 8), 2), fewest_wash((3, 3, 5), 2), fewest_wash((), 5)]
+[2, (0, 4), 3, 4, 2, 0]
+""",
+    63: r"""
+>>> [inked_by((0, 3), (2,)), inked_by((1,), (2, 2)), sums_by((0, 2, 6)), sums_by((4, 4, 4)), sums_by(()), inked_by((), (2,))]
+[(-1, 0, 2, 3), (1,), (-6, -2, 2, 6), (0,), (), ()]
+>>> [alike_by_places((0, 1, 2, 3), (0, 2, 3)), alike_by_places((0, 0), (0,)), place_apart_in_ink((0, 1), (0, 3)), place_apart_in_ink((), (0,)), place_apart_in_ink((0, 1, 2, 3), (0, 2, 3))]
+[True, True, 0, 1, None]
+""",
+    64: r"""
+>>> [fewest_folds((0, 1, 2, 3)), least_ink_row((0, 1, 2, 3)), step_lots((0, 1, 2, 3)), fewest_folds((4, 4)), fewest_folds(()), step_lots((0, 5))]
+[3, (0, 1, 3), [(1, 1, 1), (1, 2)], 1, 0, [(5,)]]
+""",
+    65: r"""
+>>> [fewest_ways((0, 1, 2, 3, 4)), fewest_ways((0, 2, 3, 5)), fewest_ways((0, 1, 3)), fewest_ways((7,)), inked_by((2,), row_from(2, (0, 2, 3, 5)))]
+[(1, 1, 2), (2, 3), None, (), (0, 2, 3, 5)]
+""",
+    66: r"""
+>>> [inked_by((1,), stretch_row(1, 0, 4)), len(stretch_row(1, 0, 4)), stretch_row(3, 3, 3), holes_of((0, 1, 4, 6)), inks_whole((1,), 0), inks_whole((2,), 0)]
+[(0, 1, 2, 3, 4), 3, (), [(2, 3), (5, 5)], True, False]
+""",
+    67: r"""
+>>> [usual_count((0,)), unusual_places((0,)), usual_count((0, 2)), unusual_places((0, 2)), usual_count((1, 1)), unusual_places((1, 1))]
+[2, [0], 4, [-1, 0, 1], 2, []]
+""",
+    68: r"""
+>>> [greatest_lot((-2, 0, 2, 4), (0, 2)), comes_of_some((-2, 0, 2, 4), (0, 2)), fewest_before((-2, 0, 2, 4), (0, 2)), comes_of_some((0, 1), (0,))]
+[(-2, 0, 2), True, (-2,), False]
+""",
+    69: r"""
+>>> [ring_folded(3, (1, 0, 0), (2, 3)), ring_print(4, 1, (2,)), ring_print(4, 1, (0, 1)), ring_print(1, 0, (5, 5))]
+[(2, 1, 1), (0, 2, 0, 0), (1, 1, 1, 1), (4,)]
+>>> [closed_up(3, ((-1, 2), (5, 1), (7, 4))), cut_open(3, (0, 4, 3)), are_ring_drops(2, (0, -1))]
+[(0, 4, 3), ((1, 4), (2, 3)), False]
+""",
+    71: r"""
+>>> [ring_washes(3, (0, 3)), ring_washes(4, (0, 2)), ring_washes(4, (1, 3)), ring_washes(2, (1,)), ring_washes(2, (4,))]
+[True, True, False, False, True]
+>>> [washing_rings((0, 12)), washing_rings((1,)), washing_rings(()), washing_rings((4, 4)), washing_power((0, 12, 6), 3)]
+[[1, 2, 3, 4, 6, 12], [1], [], None, 2]
+""",
 }
 
 
@@ -124,7 +196,7 @@ class Examples(unittest.TestCase):
                 with self.subTest(point=point, entered=entered):
                     self.check(entered, told, known)
                     seen += 1
-        self.assertEqual(seen, 23)
+        self.assertEqual(seen, 43)
 
 
 if __name__ == "__main__":

@@ -12,7 +12,7 @@ BUILTINS = set((
     "len range enumerate zip min max sum abs sorted reversed int str bool list tuple dict set isinstance any all "
     "ValueError"
 ).split())
-METHODS = set("append extend get index items join count partition bit_length".split())
+METHODS = set("append extend get index items values join count partition bit_length add pop".split())
 LIBRARY = {"math": {"gcd", "factorial"}}
 FORBIDDEN = (
     ast.Global, ast.AsyncFunctionDef, ast.Try, ast.With, ast.Yield, ast.YieldFrom, ast.Await, ast.Div, ast.Starred,

@@ -1,11 +1,18 @@
 """What arguments must be: the checks that the other files share."""
 
-from wetfolds.errors import InvalidCrease, InvalidFolds, InvalidNumber, InvalidPlace, InvalidStrip, NoFolds
+from wetfolds.errors import (
+    EmptyLot, InvalidCrease, InvalidFolds, InvalidLot, InvalidNumber, InvalidPlace, InvalidPrime, InvalidStrip,
+    NoFolds, TooMany,
+)
 
 FARTHEST_PLACE = 10 ** 9
 GREATEST_CREASE = 10 ** 6
 MOST_PAIRS = 200
 MOST_FOLDS = 12
+MOST_SHORT_FOLDS = 8
+PRIMES = (2, 3, 5, 7)
+FARTHEST_LOT_PLACE = 10 ** 5
+MOST_LOT_PLACES = 256
 
 
 def is_whole(value):
@@ -52,6 +59,24 @@ def fits_folds(value):
     return is_tuple_up_to(value, MOST_FOLDS) and all([is_crease(item) for item in value])
 
 
+def are_steps(value, greatest):
+    """Whether a value is a tuple of steps of a row, from the least to the greatest, none above a limit."""
+    if not is_tuple_up_to(value, MOST_FOLDS - 1):
+        return False
+    if not all([is_from_to(step, 0, greatest) for step in value]):
+        return False
+    return all([step <= further for step, further in zip(value, value[1:])])
+
+
+def fits_lot(value):
+    """Whether a value is a lot that can be handed in."""
+    if not is_tuple_up_to(value, MOST_LOT_PLACES):
+        return False
+    if not all([is_from_to(item, -FARTHEST_LOT_PLACE, FARTHEST_LOT_PLACE) for item in value]):
+        return False
+    return all([place < further for place, further in zip(value, value[1:])])
+
+
 def check_strip(value):
     """Raise InvalidStrip for what is no strip."""
     if not fits_strip(value):
@@ -87,3 +112,28 @@ def check_number(value, least, greatest):
     """Raise InvalidNumber for what is no integer from one to another one."""
     if not is_from_to(value, least, greatest):
         raise InvalidNumber(f"no integer from {least} to {greatest}")
+
+
+def check_prime(value):
+    """Raise InvalidPrime for what is none of the primes."""
+    if not is_whole(value) or value not in PRIMES:
+        raise InvalidPrime("none of the primes 2, 3, 5 and 7")
+
+
+def check_lot(value):
+    """Raise InvalidLot for what is no lot."""
+    if not fits_lot(value):
+        raise InvalidLot("no lot")
+
+
+def check_some_places(value):
+    """Raise InvalidLot for what is no lot, EmptyLot for a lot without a place."""
+    check_lot(value)
+    if len(value) == 0:
+        raise EmptyLot("no place in the lot")
+
+
+def check_short(folds):
+    """Raise TooMany for a row with too many folds where it must be short."""
+    if len(folds) > MOST_SHORT_FOLDS:
+        raise TooMany(MOST_SHORT_FOLDS)

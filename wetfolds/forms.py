@@ -2,7 +2,7 @@
 
 from math import factorial
 
-from wetfolds.checks import GREATEST_CREASE, MOST_FOLDS, check_some_folds, is_crease, is_from_to, is_tuple_up_to
+from wetfolds.checks import GREATEST_CREASE, are_steps, check_some_folds, is_crease
 from wetfolds.errors import InvalidForm, TooMany
 from wetfolds.prints import steps_between
 
@@ -19,7 +19,7 @@ def is_form(value):
     """Whether any value is a form."""
     if not isinstance(value, tuple) or len(value) != 3:
         return False
-    return is_crease(value[0]) and is_crease(value[1]) and are_form_steps(value[2])
+    return is_crease(value[0]) and is_crease(value[1]) and are_steps(value[2], 2 * GREATEST_CREASE)
 
 
 def count_rows(form):
@@ -42,15 +42,6 @@ def check_form(value):
     """Raise InvalidForm for what is no form."""
     if not is_form(value):
         raise InvalidForm("no form")
-
-
-def are_form_steps(value):
-    """Whether a value is the tuple of the steps of a form."""
-    if not is_tuple_up_to(value, MOST_FOLDS - 1):
-        return False
-    if not all([is_from_to(step, 0, 2 * GREATEST_CREASE) for step in value]):
-        return False
-    return all([step <= further for step, further in zip(value, value[1:])])
 
 
 def form_between(folds):

@@ -4,6 +4,7 @@ from wetfolds.checks import check_place, fits_strip
 from wetfolds.errors import InvalidStrip
 from wetfolds.formrows import row_between
 from wetfolds.forms import count_between
+from wetfolds.strippings import divide_drops
 from wetfolds.strips import add_strips, move_drops, strip_from
 
 FARTHEST_NEAR_PLACE = 10 ** 5
@@ -78,6 +79,8 @@ def find_parts(strip):
 
 def half_without(strip, part):
     """The strip that makes this one when it, and it moved by the part, are laid together; None if none does."""
+    if part == 0:
+        return divide_drops(strip, 2)
     left = {}
     for place, drops in strip:
         rest = drops - left.get(place - part, 0)

@@ -31,9 +31,7 @@ def made_thinner(strip, number):
     """The strip with all numbers of drops divided by a number; None if one of them cannot be."""
     check_strip(strip)
     check_number(number, 1, GREATEST_NUMBER)
-    if any([drops % number != 0 for place, drops in strip]):
-        return None
-    return tuple([(place, drops // number) for place, drops in strip])
+    return divide_drops(strip, number)
 
 
 def thinnest_by(strip):
@@ -45,3 +43,10 @@ def thinnest_by(strip):
     for place, drops in strip:
         number = gcd(number, drops)
     return number
+
+
+def divide_drops(strip, number):
+    """A strip with all numbers of drops divided by a number; None if one of them cannot be."""
+    if any([drops % number != 0 for place, drops in strip]):
+        return None
+    return tuple([(place, drops // number) for place, drops in strip])
