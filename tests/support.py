@@ -146,7 +146,9 @@ WRONG_STEPS = STRANGE + STRINGS + INTEGERS + [
     nested(tuple, 99), (1, None), "12",
 ]
 
-WRONG_PRIMES = STRANGE + STRINGS + TUPLES + [0, 1, 4, 6, 8, 9, 11, 13, -2, -3, -7, FAR, HUGE, -HUGE, (2,), [3], "5", ((7,),)]
+WRONG_PRIMES = STRANGE + STRINGS + TUPLES + [
+    0, 1, 4, 6, 8, 9, 11, 13, -2, -3, -7, FAR, HUGE, -HUGE, (2,), [3], "5", ((7,),),
+]
 
 WRONG_LOTS = STRANGE + STRINGS + INTEGERS + [
     [1, 2], (None,), ("0",), ("0", "1"), ((0,),), ((),), ([],), ((0, 1),), (True,), (False,), (0, True), (False, 1),

@@ -2,6 +2,7 @@
 
 import unittest
 from itertools import product
+from unittest import mock
 
 from tests.support import made, made_folds, plain_ink, row_by
 from wetfolds.errors import TooMany
@@ -142,6 +143,15 @@ class StepLots(unittest.TestCase):
             with self.assertRaises(TooMany) as caught:
                 step_lots(row_by(0, steps))
             self.assertEqual(caught.exception.limit, 500)
+
+    def test_the_limit_itself(self):
+        row = row_by(0, (1, 1, 3, 5, 10, 14))
+        with mock.patch("wetfolds.likerows.MOST_STEP_LOTS", 495):
+            self.assertEqual(len(step_lots(row)), 495)
+        with mock.patch("wetfolds.likerows.MOST_STEP_LOTS", 494):
+            with self.assertRaises(TooMany) as caught:
+                step_lots(row)
+            self.assertEqual(caught.exception.limit, 494)
 
     def test_more_tuples_than_the_limit_raise_nothing_elsewhere(self):
         row = row_by(0, (1, 2, 4, 8, 16, 32, 1))

@@ -58,7 +58,7 @@ def first_to_mark(inks, lacking, many):
         return () if lacking == 0 else None
     for at in range(len(inks) - many + 1):
         place, marks = inks[at]
-        found = first_to_mark(inks[at + 1:], lacking & ~marks, many - 1)
+        found = first_to_mark(inks[at + 1:], lacking - (lacking & marks), many - 1)
         if found is not None:
             return (place,) + found
     return None
