@@ -3,15 +3,19 @@
 from tests import support
 from tests.support import FAR, INTEGERS, STRANGE, TUPLES, wrong_integers
 from wetfolds.alikerows import doublings, exchange_places, parting_place, rows_alike
+from wetfolds.ends import ended_print, ended_strip, lost_drops
+from wetfolds.endsalike import alike_at_all, alike_ended, telling_length, telling_place
 from wetfolds.errors import (
-    EmptyLot, InvalidCrease, InvalidFolds, InvalidForm, InvalidIndex, InvalidLot, InvalidMove, InvalidNumber,
-    InvalidPlace, InvalidPrime, InvalidRing, InvalidSteps, InvalidStretch, InvalidStrip, InvalidText, NoFolds, NotInked,
+    EmptyLot, InvalidCrease, InvalidFolds, InvalidForm, InvalidIndex, InvalidLength, InvalidLot, InvalidMove,
+    InvalidNumber, InvalidPlace, InvalidPrime, InvalidRing, InvalidSteps, InvalidStretch, InvalidStrip, InvalidText,
+    NoFolds, NotInked,
 )
 from wetfolds.foldbacks import count_before, strip_before, stuck_fold
 from wetfolds.folding import drops_at, folded, folded_by, folded_on
 from wetfolds.foldtexts import folds_text, read_folds, read_strip, strip_text
 from wetfolds.formrows import index_of, last_row, least_row, row_at
 from wetfolds.forms import count_rows, form_of, is_form, rows_of
+from wetfolds.goodlengths import bad_lengths, good_from, is_good_length, out_and_back
 from wetfolds.greatestlots import comes_of_some, fewest_before, greatest_lot
 from wetfolds.inkedplaces import alike_by_places, inked_by, place_apart_in_ink, sums_by
 from wetfolds.likeprints import come_to_one, count_like, first_unlike
@@ -20,8 +24,12 @@ from wetfolds.lotways import fewest_ways, row_from
 from wetfolds.onedrops import count_drop_rows, drop_places, first_drop_row, parts_of
 from wetfolds.plainstrips import plain_strip, way_between
 from wetfolds.prints import first_way, looked_back, print_of, reaches_of, steps_of
+from wetfolds.ranks import ended_table, rank_on, two_to_one
+from wetfolds.ringalikes import alike_on_ring, parting_ring, rings_alike, spot_apart
+from wetfolds.ringevens import fewest_even, is_spread_evenly, lacking_power
 from wetfolds.rings import are_ring_drops, closed_up, cut_open, ring_folded, ring_print
 from wetfolds.ringwashes import ring_washes, washing_power, washing_rings
+from wetfolds.rooms import room_of, safe_places
 from wetfolds.rowmoves import is_road, moved_row, road_between
 from wetfolds.rownumbers import count_folds, folds_at, folds_number
 from wetfolds.rowways import folds_between, mirrored_folds, plain_folds, shifted_folds
@@ -79,6 +87,12 @@ GREAT_SIZE = (3, ((wrong_integers(1, 10 ** 6), InvalidNumber),))
 DROPS = (RING, ((support.WRONG_RINGS, InvalidRing),))
 SPOT = (2, ((wrong_integers(0, 2), InvalidPlace),))
 ODD = (3, ((wrong_integers(3, 10 ** 6) + [1, 0, -3, 4, 10 ** 6, 999998, 10 ** 6 + 3], InvalidNumber),))
+END_ROW = (6, 8, 6)
+ENDED_ROW = (END_ROW, ((support.WRONG_ENDED_FOLDS, InvalidFolds),))
+ENDED_BESIDE = ((6, 2, 6), ((support.WRONG_ENDED_FOLDS, InvalidFolds),))
+LENGTH = (10, ((wrong_integers(0, 64), InvalidLength),))
+ANY_LENGTH = (10, (([value for value in wrong_integers(0, 64) if value is not None], InvalidLength),))
+TABLE_LENGTH = (10, ((wrong_integers(0, 24) + [25, 64], InvalidLength),))
 NO_STRINGS = STRANGE + TUPLES + INTEGERS + [["0:1"], ("0:1",)]
 STRIP_SAID = ("0:1 3:2", ((NO_STRINGS, InvalidText),))
 ROW_SAID = ("1 -1/2 7/2", ((NO_STRINGS, InvalidText),))
@@ -183,10 +197,36 @@ FUNCTIONS = [
     (ring_washes, "ringwashes", "size folds", [GREAT_SIZE, ROW]),
     (washing_rings, "ringwashes", "folds", [ROW]),
     (washing_power, "ringwashes", "folds odd", [ROW, ODD]),
+    (alike_on_ring, "ringalikes", "size folds other", [SIZE, ROW, BESIDE]),
+    (spot_apart, "ringalikes", "size folds other", [SIZE, ROW, BESIDE]),
+    (parting_ring, "ringalikes", "folds other", [ROW, BESIDE]),
+    (rings_alike, "ringalikes", "folds other", [ROW, BESIDE]),
+    (is_spread_evenly, "ringevens", "size spot folds", [GREAT_SIZE, SPOT, ROW]),
+    (fewest_even, "ringevens", "size spot", [GREAT_SIZE, SPOT]),
+    (lacking_power, "ringevens", "size spot folds", [GREAT_SIZE, SPOT, ROW]),
+    (ended_print, "ends", "place folds length", [PLACE, ENDED_ROW, ANY_LENGTH]),
+    (lost_drops, "ends", "place folds length", [PLACE, ENDED_ROW, ANY_LENGTH]),
+    (ended_strip, "ends", "strip folds length", [STRIP, ENDED_ROW, ANY_LENGTH]),
+    (alike_ended, "endsalike", "folds others length", [ENDED_ROW, ENDED_BESIDE, ANY_LENGTH]),
+    (telling_place, "endsalike", "folds others length", [ENDED_ROW, ENDED_BESIDE, ANY_LENGTH]),
+    (alike_at_all, "endsalike", "folds others", [ENDED_ROW, ENDED_BESIDE]),
+    (telling_length, "endsalike", "folds others", [ENDED_ROW, ENDED_BESIDE]),
+    (is_good_length, "goodlengths", "folds length", [ENDED_ROW, LENGTH]),
+    (bad_lengths, "goodlengths", "folds", [ENDED_ROW]),
+    (good_from, "goodlengths", "folds", [ENDED_ROW]),
+    (out_and_back, "goodlengths", "folds length", [ENDED_ROW, LENGTH]),
+    (room_of, "rooms", "folds length", [ENDED_ROW, ANY_LENGTH]),
+    (safe_places, "rooms", "folds length", [ENDED_ROW, ANY_LENGTH]),
+    (ended_table, "ranks", "folds length", [ENDED_ROW, TABLE_LENGTH]),
+    (rank_on, "ranks", "folds length", [ENDED_ROW, TABLE_LENGTH]),
+    (two_to_one, "ranks", "folds length", [ENDED_ROW, TABLE_LENGTH]),
     (is_strip, "strips", "value", [(A, ())]),
     (are_folds, "strips", "value", [(FOLDS, ())]),
     (is_form, "forms", "value", [(FORM, ())]),
 ]
 
 # The functions that return lists.
-LISTS = (folded_on, rows_of, places_for, step_lots, holes_of, unusual_places, washing_rings)
+LISTS = (
+    folded_on, rows_of, places_for, step_lots, holes_of, unusual_places, washing_rings, rings_alike, bad_lengths,
+    safe_places,
+)

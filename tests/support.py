@@ -165,7 +165,37 @@ WRONG_RINGS = STRANGE + STRINGS + INTEGERS + [
     nested(tuple, 99), ((0, 1), (1, 4), (2, 3)), tuple(range(1000)),
 ]
 
+WRONG_ENDED_FOLDS = WRONG_FOLDS + [
+    (61,), (-61,), (0, 61), (0, -61), (60, 60, 61), (10 ** 6,), (-10 ** 6, 0), (0,) * 9, tuple(range(9)), (0,) * 12,
+    (0, 60, True), (60, None), (61, 2, 3, 4, 5, 6, 7, 8),
+]
+
 PRIMES = (2, 3, 5, 7)
+
+
+def plain_ring_print(size, spot, folds):
+    """For each place of a ring the drops that come of one drop."""
+    drops = Counter([spot])
+    for h in folds:
+        more = Counter(drops)
+        for x, many in drops.items():
+            more[(h - x) % size] += many
+        drops = more
+    return tuple(drops[place] for place in range(size))
+
+
+def plain_ended(places, folds, length):
+    """The list with one place for each drop that comes of some on a paper with ends, walk by walk."""
+    drops = list(places)
+    for h in folds:
+        come = [h - x for x in drops]
+        drops += [x for x in come if x >= 0 and (length is None or x < length)]
+    return drops
+
+
+def plain_ended_print(place, folds, length):
+    """The ended print of one drop, walk by walk."""
+    return strip_of(plain_ended([place], folds, length))
 
 
 def plainly_modulo(strip, prime):

@@ -9,7 +9,8 @@ MODULES = (
     "strips", "folding", "prints", "plainstrips", "strippings", "rowways", "foldtexts", "rownumbers", "forms",
     "formrows", "alikerows", "rowmoves", "standins", "onedrops", "errors", "foldbacks", "likeprints", "stepbacks",
     "washforms", "washings", "washbacks", "washrows", "inkedplaces", "likerows", "lotways", "stretches",
-    "usualcounts", "greatestlots", "rings", "ringwashes",
+    "usualcounts", "greatestlots", "rings", "ringwashes", "ringalikes", "ringevens", "ends", "endsalike",
+    "goodlengths", "rooms", "ranks",
 )
 
 EXAMPLES = {
@@ -155,6 +156,38 @@ raises InvalidText(5)
 >>> [washing_rings((0, 12)), washing_rings((1,)), washing_rings(()), washing_rings((4, 4)), washing_power((0, 12, 6), 3)]
 [[1, 2, 3, 4, 6, 12], [1], [], None, 2]
 """,
+    70: r"""
+>>> [alike_on_ring(2, (0, 1), (1, 0)), spot_apart(3, (0, 1), (1, 0)), parting_ring((0, 2, 6), (0, 4, 6)), parting_ring((0,), (0, 0))]
+[True, 0, None, 1]
+>>> [rings_alike((0, 1), (1, 0)), rings_alike((0, 12), (12, 0)), parting_ring((0, 12), (12, 0)), rings_alike((), (0,))]
+[[1, 2], [1, 2, 3, 4, 6, 8, 12, 24], 5, []]
+""",
+    72: r"""
+>>> [is_spread_evenly(4, 1, (0, 1)), is_spread_evenly(3, 0, (1, 2, 5)), fewest_even(1, 0), fewest_even(12, 3), len(fewest_even(8, 0))]
+[True, False, (), None, 3]
+>>> [lacking_power(8, 0, (1, 3)), lacking_power(8, 0, (1, 3, 7)), lacking_power(6, 0, (1,))]
+[4, None, None]
+""",
+    73: r"""
+>>> [ended_print(0, (0, 2, 6), None), ended_print(1, (0, 2, 6), None), lost_drops(1, (0, 2, 6), None), ended_strip(((0, 1), (1, 5)), (2, 2), 2)]
+[((0, 2), (2, 2), (4, 2), (6, 2)), ((1, 2), (5, 2)), 4, ((0, 1), (1, 20))]
+""",
+    74: r"""
+>>> [telling_place((0, 2, 6), (0, 4, 6), None), telling_length((0, 2, 6), (0, 4, 6)), alike_ended((-5, 2), (2, -1), None), alike_at_all((-5, 2), (2, -1))]
+[1, (2, 1), True, True]
+""",
+    75: r"""
+>>> [is_good_length((2, 2), 2), bad_lengths((2, 2)), good_from((2, 2)), out_and_back((2, 2), 2), bad_lengths((6,)), good_from(())]
+[False, [1, 2], 3, (0, 2, 0), [], 0]
+""",
+    76: r"""
+>>> [room_of((2, 6), None), safe_places((2, 6), None), room_of((2, 6), 6), safe_places((2, 6), 6), safe_places((), 2)]
+[2, [0, 1, 2], 0, [1], [0, 1]]
+""",
+    77: r"""
+>>> [ended_table((0, 1), 2), rank_on((0, 1), 2), two_to_one((), 5), rank_on((2, 2), 3)]
+[((2, 2), (1, 1)), 1, None, 2]
+""",
 }
 
 
@@ -196,7 +229,7 @@ class Examples(unittest.TestCase):
                 with self.subTest(point=point, entered=entered):
                     self.check(entered, told, known)
                     seen += 1
-        self.assertEqual(seen, 43)
+        self.assertEqual(seen, 52)
 
 
 if __name__ == "__main__":
