@@ -3,12 +3,15 @@
 from tests import support
 from tests.support import FAR, INTEGERS, STRANGE, TUPLES, wrong_integers
 from wetfolds.alikerows import doublings, exchange_places, parting_place, rows_alike
+from wetfolds.drying import dry_print, parting_time, same_dry
+from wetfolds.dryrows import count_dry, middles_and_shifts, row_of_lots, row_told
 from wetfolds.ends import ended_print, ended_strip, lost_drops
 from wetfolds.endsalike import alike_at_all, alike_ended, telling_length, telling_place
 from wetfolds.errors import (
-    EmptyLot, InvalidCrease, InvalidFolds, InvalidForm, InvalidIndex, InvalidLength, InvalidLot, InvalidMove,
-    InvalidNumber, InvalidPlace, InvalidPrime, InvalidRing, InvalidSteps, InvalidStretch, InvalidStrip, InvalidText,
-    NoFolds, NotInked,
+    EmptyLot, InvalidCrease, InvalidFolds, InvalidForm, InvalidIndex, InvalidLength, InvalidLog, InvalidLot,
+    InvalidLots, InvalidMove, InvalidNumber, InvalidPlace, InvalidPrime, InvalidPrints, InvalidRing, InvalidSheet,
+    InvalidSheetRow, InvalidSpot, InvalidSteps, InvalidStretch, InvalidStrip, InvalidText, InvalidTime, NoFolds,
+    NotInked,
 )
 from wetfolds.foldbacks import count_before, strip_before, stuck_fold
 from wetfolds.folding import drops_at, folded, folded_by, folded_on
@@ -20,6 +23,8 @@ from wetfolds.greatestlots import comes_of_some, fewest_before, greatest_lot
 from wetfolds.inkedplaces import alike_by_places, inked_by, place_apart_in_ink, sums_by
 from wetfolds.likeprints import come_to_one, count_like, first_unlike
 from wetfolds.likerows import fewest_folds, least_ink_row, step_lots
+from wetfolds.lives import is_log, lived, lived_on
+from wetfolds.logforms import are_like_logs, exchanged_deeds, log_form
 from wetfolds.lotways import fewest_ways, row_from
 from wetfolds.onedrops import count_drop_rows, drop_places, first_drop_row, parts_of
 from wetfolds.plainstrips import plain_strip, way_between
@@ -33,6 +38,9 @@ from wetfolds.rooms import room_of, safe_places
 from wetfolds.rowmoves import is_road, moved_row, road_between
 from wetfolds.rownumbers import count_folds, folds_at, folds_number
 from wetfolds.rowways import folds_between, mirrored_folds, plain_folds, shifted_folds
+from wetfolds.shares import shares_at
+from wetfolds.sheetrows import can_exchange, count_straight, same_on_sheets, sheet_parting, straight_form
+from wetfolds.sheets import is_sheet, is_sheet_row, sheet_folded, sheet_print
 from wetfolds.standins import places_for, with_row
 from wetfolds.stepbacks import count_step_rows, first_creases, last_crease, last_steps, rest_by
 from wetfolds.stretches import holes_of, inks_whole, stretch_row
@@ -93,6 +101,22 @@ ENDED_BESIDE = ((6, 2, 6), ((support.WRONG_ENDED_FOLDS, InvalidFolds),))
 LENGTH = (10, ((wrong_integers(0, 64), InvalidLength),))
 ANY_LENGTH = (10, (([value for value in wrong_integers(0, 64) if value is not None], InvalidLength),))
 TABLE_LENGTH = (10, ((wrong_integers(0, 24) + [25, 64], InvalidLength),))
+SHEET_ROW = (("x", 2), ("y", 0), ("x", 2))
+SHEET = (((0, 1), 1), ((2, -1), 5))
+A_SHEET = (SHEET, ((support.WRONG_SHEETS, InvalidSheet),))
+A_SHEET_ROW = (SHEET_ROW, ((support.WRONG_SHEET_ROWS, InvalidSheetRow),))
+SHEET_ROW_BESIDE = ((("less", 1),), ((support.WRONG_SHEET_ROWS, InvalidSheetRow),))
+ASLANT = [(("less", 0),), (("sum", 0),), (("x", 0), ("less", 0)), (("sum", 1), ("y", 0))]
+STRAIGHT = (SHEET_ROW, ((support.WRONG_SHEET_ROWS + ASLANT, InvalidSheetRow),))
+A_SPOT = ((1, 2), ((support.WRONG_SPOTS, InvalidSpot),))
+ONE_OF_THREE = (1, ((wrong_integers(0, 2), InvalidNumber),))
+TIME = (2, ((wrong_integers(0, 100), InvalidTime),))
+MIDDLES = ((0, 2), ((support.WRONG_LOT_NUMBERS + [(), (0, 1, 2, 3), (0, 1, 2)], InvalidLots),))
+SHIFTS = ((1,), ((support.WRONG_LOT_NUMBERS + [(0, 1, 2), (1, 2, 3, 4), ()], InvalidLots),))
+PRINTS = ((((10 ** 8, 1),),), ((support.WRONG_PRINTS, InvalidPrints),))
+LOG = (("drop", 0, 1), ("drop", 3, 2), ("fold", 2), ("move", 3))
+A_LOG = (LOG, ((support.WRONG_LOGS, InvalidLog),))
+LOG_BESIDE = ((("fold", 2),), ((support.WRONG_LOGS, InvalidLog),))
 NO_STRINGS = STRANGE + TUPLES + INTEGERS + [["0:1"], ("0:1",)]
 STRIP_SAID = ("0:1 3:2", ((NO_STRINGS, InvalidText),))
 ROW_SAID = ("1 -1/2 7/2", ((NO_STRINGS, InvalidText),))
@@ -220,6 +244,29 @@ FUNCTIONS = [
     (ended_table, "ranks", "folds length", [ENDED_ROW, TABLE_LENGTH]),
     (rank_on, "ranks", "folds length", [ENDED_ROW, TABLE_LENGTH]),
     (two_to_one, "ranks", "folds length", [ENDED_ROW, TABLE_LENGTH]),
+    (sheet_folded, "sheets", "sheet sheet_row", [A_SHEET, A_SHEET_ROW]),
+    (sheet_print, "sheets", "spot sheet_row", [A_SPOT, A_SHEET_ROW]),
+    (can_exchange, "sheetrows", "sheet_row one two", [A_SHEET_ROW, ONE_OF_THREE, ONE_OF_THREE]),
+    (same_on_sheets, "sheetrows", "sheet_row beside", [A_SHEET_ROW, SHEET_ROW_BESIDE]),
+    (sheet_parting, "sheetrows", "sheet_row beside", [A_SHEET_ROW, SHEET_ROW_BESIDE]),
+    (straight_form, "sheetrows", "sheet_row", [STRAIGHT]),
+    (count_straight, "sheetrows", "sheet_row", [STRAIGHT]),
+    (dry_print, "drying", "place folds time", [PLACE, ROW, TIME]),
+    (same_dry, "drying", "folds others time", [ROW, BESIDE, TIME]),
+    (parting_time, "drying", "folds others", [ROW, BESIDE]),
+    (middles_and_shifts, "dryrows", "folds", [ROW]),
+    (count_dry, "dryrows", "folds", [ROW]),
+    (row_of_lots, "dryrows", "middles shifts", [MIDDLES, SHIFTS]),
+    (row_told, "dryrows", "prints", [PRINTS]),
+    (lived, "lives", "strip log", [STRIP, A_LOG]),
+    (lived_on, "lives", "strip log", [STRIP, A_LOG]),
+    (log_form, "logforms", "log", [A_LOG]),
+    (are_like_logs, "logforms", "log other_log", [A_LOG, LOG_BESIDE]),
+    (exchanged_deeds, "logforms", "log", [A_LOG]),
+    (shares_at, "shares", "strip log place", [STRIP, A_LOG, PLACE]),
+    (is_sheet, "sheets", "value", [(SHEET, ())]),
+    (is_sheet_row, "sheets", "value", [(SHEET_ROW, ())]),
+    (is_log, "lives", "value", [(LOG, ())]),
     (is_strip, "strips", "value", [(A, ())]),
     (are_folds, "strips", "value", [(FOLDS, ())]),
     (is_form, "forms", "value", [(FORM, ())]),
@@ -228,5 +275,5 @@ FUNCTIONS = [
 # The functions that return lists.
 LISTS = (
     folded_on, rows_of, places_for, step_lots, holes_of, unusual_places, washing_rings, rings_alike, bad_lengths,
-    safe_places,
+    safe_places, lived_on, exchanged_deeds,
 )

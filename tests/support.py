@@ -4,6 +4,7 @@ import random
 from collections import Counter
 
 from wetfolds.errors import TooMany
+from wetfolds.keepers import Keeper
 
 
 def plain_fold(drops, folds):
@@ -88,9 +89,9 @@ FAR = 10 ** 9
 HUGE = 10 ** 119
 
 # Values that are neither an integer, nor a string, nor a tuple.
-STRANGE = [None, True, False, [], [0], [(0, 1)], nested(list, 99), TooMany(7), [None] * 1000]
+STRANGE = [None, True, False, [], [0], [(0, 1)], nested(list, 99), TooMany(7), Keeper(()), [None] * 1000]
 STRINGS = ["", ".", "0", "0:1", "turn", "x" * 4000]
-TUPLES = [(), (0,), (1, 2), ((0, 1),), (None,), ("0",), nested(tuple, 99), tuple(range(1000)), ((),) * 1000]
+TUPLES = [(), (0,), (1, 2), ((0, 1),), (None,), ("0",), (Keeper(((0, 1),)),), nested(tuple, 99), tuple(range(1000)), ((),) * 1000]
 INTEGERS = [0, 1, -1, 12, FAR, HUGE, -HUGE]
 
 
@@ -170,7 +171,123 @@ WRONG_ENDED_FOLDS = WRONG_FOLDS + [
     (0, 60, True), (60, None), (61, 2, 3, 4, 5, 6, 7, 8),
 ]
 
+
+def long_sheet(many):
+    """A sheet of so many spots, one beside the other, from (0, 0) on."""
+    return tuple(((x, 0), 1) for x in range(many))
+
+
+WRONG_SPOTS = STRANGE + STRINGS + INTEGERS + [
+    (), (0,), (0, 0, 0), [0, 0], ((0, 0),), (True, 0), (0, False), (None, 0), (0, None), ("0", 0), (0, "0"), ((0,), 0),
+    (0, [0]), (FAR + 1, 0), (0, FAR + 1), (-FAR - 1, 0), (0, -FAR - 1), (HUGE, 0), (0, -HUGE), (Keeper(()), 0),
+    nested(tuple, 99), "00",
+]
+
+WRONG_SHEETS = STRANGE + STRINGS + INTEGERS + [
+    (0,), (None,), ("0",), ((),), ((0, 1),), (((0, 0),),), (((0, 0), 1, 2),), ([(0, 0), 1],), [((0, 0), 1)],
+    (([0, 0], 1),), (((0, 0), 0),), (((0, 0), -1),), (((0, 0), True),), (((0, 0), False),), (((0, 0), None),),
+    (((0, 0), "1"),), (((0, 0), (1,)),), (((True, 0), 1),), (((0, False), 1),), (((0,), 1),), (((0, 0, 0), 1),),
+    (((None, 0), 1),), ((("0", 0), 1),), (((0, FAR + 1), 1),), (((-FAR - 1, 0), 1),), (((0, HUGE), 1),), ((0, 0), 1),
+    (((0, 1), 1), ((0, 0), 1)), (((1, 0), 1), ((0, 5), 1)), (((0, 0), 1), ((0, 0), 1)), (((0, 0), 1), ((0, 0), 2)),
+    (((0, 0), 1), ((0, 1), 0)), (((0, 0), 1), ((0, 1), 1), ((0, 1), 1)), (((0, 0), 1), 3), (((0, 0), 1), ((1, 0), True)),
+    ((Keeper(()), 1),), (((0, 0), Keeper(())),), long_sheet(201), long_sheet(1000), list(long_sheet(3)),
+    nested(tuple, 99), ((nested(tuple, 97), 1),), "ab",
+]
+
+WRONG_SHEET_ROWS = STRANGE + STRINGS + INTEGERS + [
+    (0,), (None,), ("x",), ("x", 0), ((),), (("x",),), (("x", 0, 0),), (["x", 0],), [("x", 0)], (("z", 1),),
+    (("X", 1),), (("", 1),), (("x ", 1),), (("lesser", 1),), (("sums", 1),), (("xy", 1),), ((None, 1),), ((0, 1),),
+    ((True, 1),), ((("x",), 1),), ((["x"], 1),), ((Keeper(()), 1),), (("x", None),), (("x", True),), (("y", False),),
+    (("less", "0"),), (("sum", (0,)),), (("x", 10 ** 6 + 1),), (("y", -10 ** 6 - 1),), (("less", HUGE),),
+    (("sum", -HUGE),), ((0, "x"),), (("x", 0), ("y",)), (("x", 0), None), (("x", 0), ["y", 0]), (("x", 0), ("w", 0)),
+    (("x", 0),) * 11, (("sum", 0),) * 1000, nested(tuple, 99), ("x0",), ("x" * 4000,), (("x" * 4000, 0),),
+]
+
+WRONG_LOGS = STRANGE + STRINGS + INTEGERS + [
+    (0,), (None,), ("fold",), ("fold", 2), ("move", 1), ((),), (("fold",),), (("drop",),), (("move",),), (("drop", 1),),
+    (("drop", 1, 1, 1),), (("fold", 2, 1),), (("move", 2, 1),), (["fold", 2],), [("fold", 2)], (("Fold", 2),),
+    (("folds", 2),), (("", 2),), ((None, 2),), ((0, 2),), ((True, 0),), ((("fold",), 2),), ((["fold"], 2),),
+    (("turn", 0, 1),), (("drops", 0, 1),), ((Keeper(()), 2),), ((Keeper(()), 0, 1),), (("drop", None, 1),),
+    (("drop", 0, None),), (("drop", True, 1),), (("drop", 0, True),), (("drop", 0, False),), (("drop", 0, 0),),
+    (("drop", 0, -1),), (("drop", 0, 10 ** 6 + 1),), (("drop", 0, HUGE),), (("drop", 10 ** 4 + 1, 1),),
+    (("drop", -10 ** 4 - 1, 1),), (("drop", -HUGE, 1),), (("drop", "0", 1),), (("drop", 0, "1"),), (("drop", (0,), 1),),
+    (("drop", 0, [1]),), (("fold", None),), (("fold", False),), (("fold", "2"),), (("fold", (2,)),),
+    (("fold", 2 * 10 ** 4 + 1),), (("fold", -2 * 10 ** 4 - 1),), (("fold", HUGE),), (("move", None),), (("move", True),),
+    (("move", "1"),), (("move", [1]),), (("move", 10 ** 4 + 1),), (("move", -10 ** 4 - 1),), (("move", -HUGE),),
+    (("fold", 2), ("fold",)), (("fold", 2), None), (("fold", 2), ["fold", 2]), (("move", 1), ("drop", 0, 0)),
+    (("move", 0),) * 31, (("fold", 0),) * 13, (("move", 0),) * 18 + (("fold", 0),) * 13, (("drop", 0, 1),) * 1000,
+    nested(tuple, 99), (("fold", nested(tuple, 96)),), ("ab", "abc"), ("x" * 4000,), ((2, "fold"),), ((0, 1, "drop"),),
+]
+
+# What is no tuple of integers from the least to the greatest, of at most 10 ** 5 either way.
+WRONG_LOT_NUMBERS = STRANGE + STRINGS + INTEGERS + [
+    [0, 2], (None, 2), (0, None), ("0", 2), (0, "2"), ((0,), 2), (True, 2), (0, True), (False, 2), (2, 0), (0, -1),
+    (10 ** 5 + 1, 10 ** 5 + 1), (0, 10 ** 5 + 1), (-10 ** 5 - 1, 0), (0, HUGE), (-HUGE, 0), (Keeper(()), 2), (0,) * 13,
+    (0,) * 1000, nested(tuple, 99), "02",
+]
+
+WRONG_PRINTS = STRANGE + STRINGS + INTEGERS + [
+    (), (0,), (None,), ("0:1",), ((0, 1),), ((), None), (((0, 1),), [(0, 1)]), (((0, 0),),), (((0, True),),),
+    (((3, 1), (0, 1)),), (((0, 1), (0, 1)),), (((FAR + 1, 1),),), ((), ((0, 1), (0, 2))), ((),) * 9, ((),) * 1000,
+    [((0, 1),)], [()], (long_strip(201),), (Keeper(()),), nested(tuple, 99), "ab",
+]
+
 PRIMES = (2, 3, 5, 7)
+
+
+def plain_lay(spot, crease):
+    """The spot on which a crease of a sheet lays a spot."""
+    x, y = spot
+    way, h = crease
+    return {"x": (h - x, y), "y": (x, h - y), "less": (y + h, x - h), "sum": (h - y, h - x)}[way]
+
+
+def plain_sheet_print(spot, row):
+    """The sheet that comes of one drop, drop by drop."""
+    spots = [spot]
+    for crease in row:
+        spots = spots + [plain_lay(other, crease) for other in spots]
+    return strip_of(spots)
+
+
+def made_sheet_row(rng, many=5, far=9, ways=("x", "y", "less", "sum")):
+    """Some sheet row."""
+    return tuple((rng.choice(ways), rng.randint(-far, far)) for _ in range(rng.randint(0, many)))
+
+
+def plain_dry(place, folds, time):
+    """The dry print of one drop: each drop tells how many folds it will print yet."""
+    drops = [(place, time)]
+    for h in folds:
+        come = [(h - x, time) for x, left in drops if left > 0]
+        drops = [(x, max(0, left - 1)) for x, left in drops] + come
+    return strip_of([x for x, _ in drops])
+
+
+def plain_life(places, log):
+    """The list with one place for each drop that there is behind a log, there having been drops at some places."""
+    drops = list(places)
+    for deed in log:
+        if deed[0] == "drop":
+            drops = drops + [deed[1]] * deed[2]
+        elif deed[0] == "fold":
+            drops = plain_fold(drops, (deed[1],))
+        else:
+            drops = [x + deed[1] for x in drops]
+    return drops
+
+
+def made_deed(rng, far=6, most=3):
+    """Some deed."""
+    word = rng.choice(("drop", "fold", "fold", "move"))
+    if word == "drop":
+        return (word, rng.randint(-far, far), rng.randint(1, most))
+    return (word, rng.randint(-far, far))
+
+
+def made_log(rng, many=6, far=6, most=3):
+    """Some log."""
+    return tuple(made_deed(rng, far, most) for _ in range(rng.randint(0, many)))
 
 
 def plain_ring_print(size, spot, folds):

@@ -5,12 +5,13 @@ import inspect
 import unittest
 
 from tests import support
-from tests.interface import A, B, FOLDS, FUNCTIONS, LISTS, NEAR, NO_STRINGS
+from tests.interface import A, B, FOLDS, FUNCTIONS, LISTS, LOG, NEAR, NO_STRINGS, SHEET, SHEET_ROW
 from tests.support import FAR, INTEGERS, STRANGE, STRINGS, TUPLES
 from wetfolds import errors
 from wetfolds.errors import (
-    EmptyLot, FoldError, InvalidCrease, InvalidFolds, InvalidIndex, InvalidLot, InvalidMove, InvalidNumber,
-    InvalidPlace, InvalidPrime, InvalidStretch, InvalidStrip, InvalidText, NoFolds, NotInked, TooMany,
+    EmptyLot, FoldError, InvalidCrease, InvalidFolds, InvalidIndex, InvalidLog, InvalidLot, InvalidMove, InvalidNumber,
+    InvalidPlace, InvalidPrime, InvalidSheet, InvalidSheetRow, InvalidStretch, InvalidStrip, InvalidText, NoFolds,
+    NotInked, TooMany,
 )
 from wetfolds.folding import drops_at, folded_by, folded_on
 from wetfolds.foldtexts import read_folds, read_strip
@@ -20,12 +21,15 @@ from wetfolds.greatestlots import fewest_before
 from wetfolds.inkedplaces import inked_by, place_apart_in_ink
 from wetfolds.likeprints import first_unlike
 from wetfolds.likerows import fewest_folds, least_ink_row, step_lots
+from wetfolds.lives import is_log, lived, lived_on
+from wetfolds.logforms import are_like_logs, exchanged_deeds, log_form
 from wetfolds.lotways import fewest_ways, row_from
 from wetfolds.onedrops import count_drop_rows, first_drop_row
 from wetfolds.prints import first_way, looked_back, print_of
 from wetfolds.rings import are_ring_drops
 from wetfolds.rowmoves import is_road, moved_row
 from wetfolds.rowways import mirrored_folds, shifted_folds
+from wetfolds.sheets import is_sheet, is_sheet_row, sheet_folded
 from wetfolds.standins import with_row
 from wetfolds.strippings import made_thinner
 from wetfolds.strips import are_folds, is_strip, mirrored_strip, moved_strip
@@ -201,6 +205,25 @@ class WrongArguments(unittest.TestCase):
         self.check(fewest_before, [tuple(range(15)), ()], TooMany)
         self.check(fewest_before, [tuple(range(15)), [14]], InvalidFolds)
 
+    def test_too_many_pairs_of_sheets_and_logs_come_last(self):
+        sheet, row = support.long_sheet(200), (("y", 1),) + tuple(("x", 400 * 3 ** k) for k in range(6))
+        self.check(sheet_folded, [sheet, row], TooMany)
+        self.check(sheet_folded, [sheet, list(row)], InvalidSheetRow)
+        self.check(sheet_folded, [sheet + sheet, row], InvalidSheet)
+        strip, log = support.long_strip(200), tuple(("fold", 400 * 3 ** k) for k in range(4)) + (("fold", 0),) * 2
+        for function in (lived, lived_on):
+            self.check(function, [strip, log + (("fold", 20000),)], TooMany)
+            self.check(function, [strip, log + (("fold", 20001),)], InvalidLog)
+            self.check(function, [strip[::-1], log + (("fold", 20000),)], InvalidStrip)
+        many = tuple(("drop", k * 500, 1) for k in range(10)) + tuple(("fold", 3 ** k) for k in range(9))
+        far = many + (("fold", 20000), ("fold", -20000), ("fold", 19999))
+        self.check(log_form, [far], TooMany)
+        self.check(exchanged_deeds, [far], TooMany)
+        self.check(are_like_logs, [far, ()], TooMany)
+        self.check(are_like_logs, [(), far], TooMany)
+        self.check(are_like_logs, [far, (("fold", None),)], InvalidLog)
+        self.check(are_like_logs, [list(far), far], InvalidLog)
+
     def test_indices_of_forms_without_rows(self):
         for index in (-1, 0, 1, None, True):
             self.check(row_at, [(0, 1, (2,)), index], InvalidIndex)
@@ -220,7 +243,8 @@ class AnyValues(unittest.TestCase):
     EVERYTHING = (
         STRANGE + STRINGS + TUPLES + INTEGERS + support.WRONG_STRIPS + support.WRONG_FOLDS + support.WRONG_FORMS
         + support.WRONG_MOVES + support.WRONG_NEARS + support.WRONG_STEPS + support.WRONG_PRIMES + support.WRONG_LOTS
-        + support.WRONG_RINGS
+        + support.WRONG_RINGS + support.WRONG_ENDED_FOLDS + support.WRONG_SPOTS + support.WRONG_SHEETS
+        + support.WRONG_SHEET_ROWS + support.WRONG_LOGS + support.WRONG_LOT_NUMBERS + support.WRONG_PRINTS
         + [errors.InvalidStrip("x"), errors.InvalidText(3), FoldError(), (errors.TooMany(3),), ((0, errors.TooMany(3)),)]
     )
 
@@ -240,19 +264,25 @@ class AnyValues(unittest.TestCase):
             self.check(is_road, (value,), False, FOLDS, FOLDS)
             self.check(is_road, (("turn", 0, 1), value), False, FOLDS, FOLDS)
             self.check(is_road, (value, ("turn", 0, 1)), False, FOLDS, FOLDS)
-
         for value in support.WRONG_RINGS:
             self.check(are_ring_drops, value, False, 3)
+        for value in support.WRONG_SHEETS:
+            self.check(is_sheet, value, False)
+        for value in support.WRONG_SHEET_ROWS:
+            self.check(is_sheet_row, value, False)
+        for value in support.WRONG_LOGS:
+            self.check(is_log, value, False)
 
     def test_all_are_told_by_true_or_false(self):
         for value in self.EVERYTHING:
             for size in (1, 2, 3, 64):
                 self.assertIsInstance(are_ring_drops(size, value), bool)
-            for function in (is_strip, are_folds, is_form):
+            for function in (is_strip, are_folds, is_form, is_sheet, is_sheet_row, is_log):
                 self.assertIn(function(value), (True, False))
                 self.assertIsInstance(function(value), bool)
             self.assertIsInstance(is_road(FOLDS, FOLDS, value), bool)
-            self.assertEqual(is_road(FOLDS, FOLDS, value), value == () and isinstance(value, tuple))
+            # A turn of two folds changes nothing.
+            self.assertEqual(is_road(FOLDS, FOLDS, value), repr(value) in ("()", "(('turn', 0, 1),)"))
 
     def test_strips(self):
         right = [
@@ -290,6 +320,34 @@ class AnyValues(unittest.TestCase):
             self.check(are_ring_drops, list(value), False, size)
             self.check(are_ring_drops, value + (0,), False, size)
             self.check(are_ring_drops, value[1:], False, size)
+
+    def test_sheets(self):
+        right = [
+            (), SHEET, (((0, 0), 1),), (((FAR, -FAR), 1),), (((-FAR, FAR), support.HUGE),), (((0, 0), 1), ((0, 1), 1)),
+            (((0, 5), 1), ((1, -5), 1)), support.long_sheet(200), support.long_sheet(199),
+        ]
+        for value in right:
+            self.check(is_sheet, value, True)
+            self.check(is_sheet, list(value), False)
+
+    def test_sheet_rows(self):
+        right = [
+            (), SHEET_ROW, (("less", 10 ** 6),), (("sum", -10 ** 6),), (("x", 10 ** 6), ("y", -10 ** 6)),
+            (("x", 0),) * 10, (("less", 1), ("sum", 2)) * 5, (("y", 0),) * 9,
+        ]
+        for value in right:
+            self.check(is_sheet_row, value, True)
+            self.check(is_sheet_row, list(value), False)
+
+    def test_logs(self):
+        right = [
+            (), LOG, (("drop", 10 ** 4, 10 ** 6),), (("drop", -10 ** 4, 1),), (("fold", 2 * 10 ** 4),),
+            (("fold", -2 * 10 ** 4),), (("move", 10 ** 4),), (("move", -10 ** 4),), (("move", 0),) * 30,
+            (("fold", 0),) * 12, (("fold", 0),) * 12 + (("drop", 0, 1),) * 18, (("drop", 0, 1), ("move", 0)) * 15,
+        ]
+        for value in right:
+            self.check(is_log, value, True)
+            self.check(is_log, list(value), False)
 
     def test_limits_raise_nothing(self):
         top = 10 ** 6

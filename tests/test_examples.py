@@ -10,7 +10,8 @@ MODULES = (
     "formrows", "alikerows", "rowmoves", "standins", "onedrops", "errors", "foldbacks", "likeprints", "stepbacks",
     "washforms", "washings", "washbacks", "washrows", "inkedplaces", "likerows", "lotways", "stretches",
     "usualcounts", "greatestlots", "rings", "ringwashes", "ringalikes", "ringevens", "ends", "endsalike",
-    "goodlengths", "rooms", "ranks",
+    "goodlengths", "rooms", "ranks", "sheets", "sheetrows", "drying", "dryrows", "lives", "logforms", "shares",
+    "keepers",
 )
 
 EXAMPLES = {
@@ -188,6 +189,49 @@ raises InvalidText(5)
 >>> [ended_table((0, 1), 2), rank_on((0, 1), 2), two_to_one((), 5), rank_on((2, 2), 3)]
 [((2, 2), (1, 1)), 1, None, 2]
 """,
+    78: r"""
+>>> C, D = (("x", 2), ("less", 0)), (("x", 0), ("x", 0), ("y", 0))
+>>> [sheet_print((0, 1), C), sheet_print((1, 2), D), is_sheet_row((("x", 1), ("sum", 0))), is_sheet_row((("z", 1),))]
+[(((0, 1), 1), ((1, 0), 1), ((1, 2), 1), ((2, 1), 1)), (((-1, -2), 2), ((-1, 2), 2), ((1, -2), 2), ((1, 2), 2)), True, False]
+""",
+    79: r"""
+>>> [can_exchange(C, 0, 1), can_exchange(D, 0, 2), same_on_sheets(D, (("y", 0), ("x", 0), ("y", 0))), same_on_sheets(C, C[::-1])]
+[False, True, True, False]
+>>> [straight_form(D), count_straight(D), straight_form((("x", 1), ("x", 4), ("x", 2))), count_straight((("x", 1), ("x", 4), ("x", 2))), straight_form(())]
+[((0, 0, ()), (0, 0, ()), 1), 6, ((1, 2, (2, 3)), None, 0), 2, (None, None, 0)]
+""",
+    80: r"""
+>>> [dry_print(0, (2, 6, 0), time) for time in (0, 1)]
+[((0, 1),), ((-4, 1), (0, 1), (2, 1), (4, 1))]
+>>> [dry_print(0, (2, 6, 0), 3) == print_of(0, (2, 6, 0)), parting_time((0, 1, 3), (0, 2, 3)), parting_time((0, 1, 3), (2, 3, 1)), parting_time((4,), (4,))]
+[True, 1, 2, None]
+""",
+    81: r"""
+>>> [middles_and_shifts((0, 1, 3)), count_dry((0, 1, 3)), row_of_lots((0, 2), (1,)), row_of_lots((), ())]
+[((0, 2), (1,)), 2, (0, 1, 3), ()]
+>>> row_told(tuple([dry_print(10 ** 8, (5, 0, 7), time) for time in range(4)]))
+(5, 0, 7)
+""",
+    82: r"""
+>>> Y = (("drop", 0, 1), ("fold", 2), ("move", 3), ("drop", 5, 2), ("fold", 0))
+>>> [is_log(Y), is_log((("drop", 0, 0),)), lived((), Y), lived_on(((1, 1),), Y[:3])]
+[True, False, ((-5, 3), (-3, 1), (3, 1), (5, 3)), [((1, 1),), ((0, 1), (1, 1)), ((0, 1), (1, 2), (2, 1)), ((3, 1), (4, 2), (5, 1))]]
+""",
+    83: r"""
+>>> [log_form(Y)[:2], are_like_logs((("fold", 0), ("fold", 2)), (("fold", 0), ("fold", -2), ("move", 2))), are_like_logs((), (("move", 1),))]
+[((2, -6), 3), True, False]
+>>> [exchanged_deeds(Y), exchanged_deeds((("drop", 1, 1), ("drop", 2, 1), ("move", 0), ("fold", 4)))]
+[[], [0, 1, 2]]
+""",
+    84: r"""
+>>> [shares_at(((2, 1),), Y, 5), shares_at((), Y, -3), shares_at(((2, 1),), Y, 0)]
+[((-1, 1), (0, 1), (3, 2)), ((0, 1),), ()]
+""",
+    85: r"""
+>>> a = Keeper(((1, 1),))
+>>> [a.drop(0, 1), a.fold(2), a.standing, a.total, a.undo(), a.standing, a.redo(), len(a), a.move(3), a.log[2], a == Keeper(())]
+[None, None, ((0, 1), (1, 2), (2, 1)), 4, None, ((0, 1), (1, 1)), None, 2, None, ('move', 3), False]
+""",
 }
 
 
@@ -229,7 +273,7 @@ class Examples(unittest.TestCase):
                 with self.subTest(point=point, entered=entered):
                     self.check(entered, told, known)
                     seen += 1
-        self.assertEqual(seen, 52)
+        self.assertEqual(seen, 67)
 
 
 if __name__ == "__main__":

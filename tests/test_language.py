@@ -13,9 +13,10 @@ BUILTINS = set((
     "ValueError"
 ).split())
 METHODS = set("append extend get index items values join count partition bit_length add pop".split())
-LIBRARY = {"math": {"gcd", "factorial"}}
+OWN_METHODS = {"_check_room", "_do"}
+LIBRARY = {"math": {"gcd", "factorial", "comb"}}
 FORBIDDEN = (
-    ast.Global, ast.AsyncFunctionDef, ast.Try, ast.With, ast.Yield, ast.YieldFrom, ast.Await, ast.Div, ast.Starred,
+    ast.Global, ast.AsyncFunctionDef, ast.ExceptHandler, ast.With, ast.Yield, ast.YieldFrom, ast.Await, ast.Div, ast.Starred,
     ast.Import, ast.GeneratorExp, ast.Is, ast.IsNot, ast.Lambda, ast.Nonlocal, ast.NamedExpr,
 )
 WORDS = (
@@ -55,8 +56,32 @@ class Language(unittest.TestCase):
             for node in ast.walk(tree):
                 if isinstance(node, ast.FunctionDef):
                     self.assertLessEqual(node.end_lineno - node.lineno + 1, 40, (path, node.name))
-                    self.assertEqual(node.decorator_list, [])
-                    self.assertTrue(ast.get_docstring(node) or node.name == "__init__", (path, node.name))
+                    told = ast.get_docstring(node) or node.name in ("__init__", "__len__", "__eq__")
+                    self.assertTrue(told, (path, node.name))
+
+    def test_decorators(self):
+        for path, tree in trees():
+            methods = [part for node in tree.body if isinstance(node, ast.ClassDef) for part in node.body]
+            for node in ast.walk(tree):
+                if isinstance(node, (ast.FunctionDef, ast.ClassDef)) and node.decorator_list:
+                    self.assertIn(node, methods)
+                    self.assertEqual([ast.unparse(part) for part in node.decorator_list], ["property"])
+                    self.assertEqual(ast.unparse(node.args), "self")
+                    self.assertEqual(len(node.body), 2)
+                    self.assertIsInstance(node.body[1], ast.Return)
+
+    def test_what_is_done_finally(self):
+        simple = (ast.Name, ast.Attribute, ast.Tuple, ast.Load, ast.Store)
+        for path, tree in trees():
+            for node in ast.walk(tree):
+                if isinstance(node, ast.Try):
+                    self.assertEqual((node.handlers, node.orelse, len(node.finalbody)), ([], [], 1))
+                    test, rows = node.finalbody[0].test, node.finalbody[0].body
+                    self.assertTrue(is_none_test(test) and isinstance(test.left, ast.Name), path)
+                    for row in rows:
+                        self.assertIsInstance(row, ast.Assign)
+                        for part in ast.walk(row):
+                            self.assertIsInstance(part, simple + (ast.Assign,))
 
     def test_no_forbidden_statements(self):
         for path, tree in trees():
@@ -118,6 +143,7 @@ class Language(unittest.TestCase):
     def test_calls(self):
         for path, tree in trees():
             known = {node.name for node in ast.walk(tree) if isinstance(node, (ast.FunctionDef, ast.ClassDef))}
+            known |= {node.arg for node in ast.walk(tree) if isinstance(node, ast.arg) and node.arg == "action"}
             known |= {alias.name for node in ast.walk(tree) if isinstance(node, ast.ImportFrom)
                       for alias in node.names}
             for node in ast.walk(tree):
@@ -125,7 +151,7 @@ class Language(unittest.TestCase):
                     if isinstance(node.func, ast.Name):
                         self.assertIn(node.func.id, known | BUILTINS, (path.name, node.lineno))
                     else:
-                        self.assertIn(node.func.attr, METHODS | {"__init__"}, (path.name, node.lineno))
+                        self.assertIn(node.func.attr, METHODS | OWN_METHODS | {"__init__"}, (path.name, node.lineno))
 
     def test_exponents_and_strings(self):
         for path, tree in trees():
